@@ -1,0 +1,1 @@
+"""Tabletsky: tables of the sky."""
