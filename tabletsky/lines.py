@@ -24,6 +24,17 @@ def _first_wrong(low, high, step, at, up):
     return None
 
 
+def rows_with(rule, thing):
+    """The rows of one return of a line, or of zones, that have a worth."""
+    rows, _ = rule.returns()
+    if rows > MOST_ROWS:
+        raise TooMany("it comes again behind more than 5,000 rows")
+    # To == a truth is a number, so (True, 1) would be found where (1, 1) is.
+    if not is_worth(thing):
+        return []
+    return [row for row in range(rows) if rule.value(row) == thing]
+
+
 class Line:
     """A line, told for each row, however far ahead or behind.
 
@@ -66,10 +77,4 @@ class Line:
 
     def rows_of(self, thing):
         """The rows of one return that have a worth."""
-        rows, _ = self.returns()
-        if rows > MOST_ROWS:
-            raise TooMany("the line comes again behind more than 5,000 rows")
-        # To == a truth is a number, so (True, 1) would be found where (1, 1) is.
-        if not is_worth(thing):
-            return []
-        return [row for row in range(rows) if self.value(row) == thing]
+        return rows_with(self, thing)

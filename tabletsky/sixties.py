@@ -3,6 +3,7 @@
 from math import gcd
 
 from tabletsky.errors import NoFit, NoText, NoWorth
+from tabletsky.kinds import is_tuple
 
 MOST_GROUPS = 8
 
@@ -17,6 +18,14 @@ def is_whole_from(thing, least, most):
     return is_whole(thing) and least <= thing <= most
 
 
+def is_form(thing):
+    """Whether a thing is a tuple of numbers of wholes and of parts."""
+    if not is_tuple(thing, 2):
+        return False
+    wholes, parts = thing
+    return is_whole_from(wholes, 1, MOST_GROUPS) and is_whole_from(parts, 0, MOST_GROUPS)
+
+
 def worth(top, bottom=1):
     """The worth of one whole number by another one."""
     if not is_whole(top) or not is_whole(bottom) or bottom == 0:
@@ -29,7 +38,7 @@ def worth(top, bottom=1):
 
 def is_worth(thing):
     """Whether a thing is a worth as it stands, in lowest terms."""
-    if not isinstance(thing, tuple) or len(thing) != 2:
+    if not is_tuple(thing, 2):
         return False
     top, bottom = thing
     return is_whole(top) and is_whole(bottom) and bottom > 0 and gcd(top, bottom) == 1
@@ -83,12 +92,12 @@ def show(thing, *, wholes=1, parts=0):
     """The text of a worth by so many groups of wholes and of parts."""
     if not is_worth(thing):
         raise NoWorth("what is shown is a worth")
-    if not is_whole_from(wholes, 1, MOST_GROUPS) or not is_whole_from(parts, 0, MOST_GROUPS):
+    if not is_form((wholes, parts)):
         raise NoWorth("wholes are from 1 to 8, parts from 0 to 8")
     units, left = divmod(thing[0] * _sixties(parts), thing[1])
     if units < 0 or units >= _sixties(wholes + parts) or left != 0:
         raise NoFit("the worth can't be shown by so many groups")
-    return _joined_groups(_groups_of(units, wholes + parts), wholes)
+    return joined_groups(_groups_of(units, wholes + parts), wholes)
 
 
 def _groups_of(units, many):
@@ -101,7 +110,8 @@ def _groups_of(units, many):
     return groups
 
 
-def _joined_groups(groups, wholes):
+def joined_groups(groups, wholes):
+    """The text of groups, so many of them wholes, the others parts."""
     text = ",".join(groups[:wholes])
     if len(groups) > wholes:
         text = text + ";" + ",".join(groups[wholes:])

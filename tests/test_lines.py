@@ -1,18 +1,12 @@
 """Points 8 and 9: lines; points 2 and 3 as they hold for these."""
 
-import signal
 import unittest
-from contextlib import contextmanager
 from fractions import Fraction
 
+from helpers import FAR, NO_WORTHS, fraction_of, soon, worth_of
 from tabletsky.errors import NoRule, TooMany
 from tabletsky.lines import Line
 
-FAR = 10 ** 12
-NO_WORTHS = (
-    None, True, False, 0, 1, 5, "5", "", b"5", [], [5, 1], {}, (), (5,), (5, 1, 1), (10, 2), (0, 2),
-    (5, 0), (5, -1), (-5, -1), (True, 1), (5, True), ("5", "1"), ((5, 1), (1, 1)), object(),
-)
 # Of each: low, high, step, at, up.
 LINES = (
     ((0, 1), (10, 1), (3, 1), (0, 1), True),
@@ -33,31 +27,9 @@ LINES = (
 )
 
 
-@contextmanager
-def soon():
-    """Fails what goes through all rows up to a far one, which would never end."""
-    def late(number, frame):
-        raise AssertionError("a far row takes too long")
-    before = signal.signal(signal.SIGALRM, late)
-    signal.alarm(20)
-    try:
-        yield
-    finally:
-        signal.alarm(0)
-        signal.signal(signal.SIGALRM, before)
-
-
 def line_of(told):
     low, high, step, at, up = told
     return Line(low=low, high=high, step=step, at=at, up=up)
-
-
-def fraction_of(thing):
-    return Fraction(thing[0], thing[1])
-
-
-def worth_of(fraction):
-    return (fraction.numerator, fraction.denominator)
 
 
 def gone_on(told, state):

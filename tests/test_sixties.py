@@ -3,6 +3,7 @@
 import unittest
 from fractions import Fraction
 
+from helpers import fraction_of, worth_of
 from tabletsky.errors import NoFit, NoText, NoWorth
 from tabletsky.sixties import is_less, is_worth, minus, over, plus, read, show, times, worth
 
@@ -15,14 +16,6 @@ NO_WORTHS = (
     "12", "", "1/2", b"12", ("1", "2"), ("1", 2), (1, "2"), (None, 1), (1, None),
     ((1, 2), (1, 2)), ((1, 1), 1), object(),
 )
-
-
-def fraction_of(thing):
-    return Fraction(thing[0], thing[1])
-
-
-def worth_of(fraction):
-    return (fraction.numerator, fraction.denominator)
 
 
 def grid():

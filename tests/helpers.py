@@ -1,0 +1,35 @@
+"""What tests of several files need."""
+
+import signal
+from contextlib import contextmanager
+from fractions import Fraction
+
+FAR = 10 ** 12
+NO_WORTHS = (
+    None, True, False, 0, 1, 5, "5", "", b"5", [], [5, 1], {}, (), (5,), (5, 1, 1), (10, 2), (0, 2),
+    (5, 0), (5, -1), (-5, -1), (True, 1), (5, True), ("5", "1"), ((5, 1), (1, 1)), object(),
+)
+# What is neither a list nor a name, of all kinds.
+ODD_THINGS = (None, True, False, 0, 1, -1, "", "A", b"a", (), {}, set(), ("a",), {"a": 1}, {"a"}, frozenset(), object())
+
+
+@contextmanager
+def soon(seconds=20):
+    """Fails what goes through all rows up to a far one, which would never end."""
+    def late(number, frame):
+        raise AssertionError("a far row takes too long")
+    before = signal.signal(signal.SIGALRM, late)
+    signal.alarm(seconds)
+    try:
+        yield
+    finally:
+        signal.alarm(0)
+        signal.signal(signal.SIGALRM, before)
+
+
+def fraction_of(thing):
+    return Fraction(thing[0], thing[1])
+
+
+def worth_of(fraction):
+    return (fraction.numerator, fraction.denominator)
