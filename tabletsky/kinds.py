@@ -1,6 +1,7 @@
 """What things are: lists and tuples of so many, names."""
 
 LETTERS = "abcdefghijklmnopqrstuvwxyz"
+FIGURES = "0123456789"
 MOST_LETTERS = 8
 MOST_NAMES = 12
 
@@ -13,6 +14,12 @@ def is_list(thing, least, most):
 def is_tuple(thing, many):
     """Whether a thing is a tuple of so many."""
     return isinstance(thing, tuple) and len(thing) == many
+
+
+def is_one_of(thing, names):
+    """Whether a thing is one of these texts."""
+    # What is no text could call itself the same as any, or be no key of a dict.
+    return isinstance(thing, str) and thing in names
 
 
 def is_name(thing):

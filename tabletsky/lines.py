@@ -3,7 +3,7 @@
 from math import gcd, lcm
 
 from tabletsky.errors import NoRule, TooMany
-from tabletsky.sixties import is_less, is_worth, minus, worth
+from tabletsky.sixties import is_above_nought, is_less, is_worth, minus, worth
 
 NOUGHT = (0, 1)
 MOST_ROWS = 5000
@@ -15,7 +15,7 @@ def _first_wrong(low, high, step, at, up):
         return "low"
     if not is_worth(high) or not is_less(low, high):
         return "high"
-    if not is_worth(step) or not is_less(NOUGHT, step) or is_less(minus(high, low), step):
+    if not is_above_nought(step) or is_less(minus(high, low), step):
         return "step"
     if not is_worth(at) or is_less(at, low) or is_less(high, at):
         return "at"

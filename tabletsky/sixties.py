@@ -3,7 +3,7 @@
 from math import gcd
 
 from tabletsky.errors import NoFit, NoText, NoWorth
-from tabletsky.kinds import is_tuple
+from tabletsky.kinds import FIGURES, is_tuple
 
 MOST_GROUPS = 8
 
@@ -47,6 +47,11 @@ def is_worth(thing):
 def _refuse_others(one, other):
     if not is_worth(one) or not is_worth(other):
         raise NoWorth("it is asked of two worths")
+
+
+def is_above_nought(thing):
+    """Whether a thing is a worth above 0."""
+    return is_worth(thing) and thing[0] > 0
 
 
 def plus(one, other):
@@ -148,4 +153,4 @@ def _first_unfit(groups):
 
 def _is_group(text):
     # isdigit would take figures of other scripts, too.
-    return len(text) == 2 and text[0] in "012345" and text[1] in "0123456789"
+    return len(text) == 2 and text[0] in "012345" and text[1] in FIGURES

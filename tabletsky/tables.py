@@ -3,7 +3,7 @@
 from math import lcm
 
 from tabletsky.errors import NoColumn, NoReturn, NoRule, TooMany
-from tabletsky.kinds import is_list, is_name, is_tuple
+from tabletsky.kinds import is_list, is_name, is_one_of, is_tuple
 from tabletsky.lines import MOST_ROWS, Line
 from tabletsky.sixties import is_less, is_worth, minus, over, plus, times, worth
 from tabletsky.zones import Zones
@@ -22,26 +22,22 @@ def _are_corners(thing):
     return all([is_less(one[0], other[0]) for one, other in zip(thing, thing[1:])])
 
 
-def _is_one_of(thing, names):
-    # What is no text could call itself the same as any, or be no key of a dict.
-    return isinstance(thing, str) and thing in names
-
-
 def _is_made(thing, ahead):
     """Whether a thing makes a column behind those of the names ahead."""
     if isinstance(thing, Line) or isinstance(thing, Zones):
         return True
-    if not is_tuple(thing, 3) or not _is_one_of(thing[1], ahead):
+    if not is_tuple(thing, 3) or not is_one_of(thing[1], ahead):
         return False
     kind, _, more = thing
-    if _is_one_of(kind, ("sum", "less")):
-        return _is_one_of(more, ahead)
-    if _is_one_of(kind, ("times", "along")):
+    if is_one_of(kind, ("sum", "less")):
+        return is_one_of(more, ahead)
+    if is_one_of(kind, ("times", "along")):
         return is_worth(more)
-    return _is_one_of(kind, ("by",)) and _are_corners(more)
+    return is_one_of(kind, ("by",)) and _are_corners(more)
 
 
-def _is_column(thing, ahead):
+def is_column(thing, ahead):
+    """Whether a thing is a column behind those of the names ahead."""
     if not is_tuple(thing, 2):
         return False
     name, made = thing
@@ -54,7 +50,7 @@ def _first_wrong(columns):
         return "columns"
     ahead = []
     for at, column in enumerate(columns):
-        if not _is_column(column, ahead):
+        if not is_column(column, ahead):
             return at
         ahead.append(column[0])
     return None
@@ -112,7 +108,7 @@ class Table:
         return list(self._rules)
 
     def _refuse_others(self, name):
-        if not _is_one_of(name, self._rules):
+        if not is_one_of(name, self._rules):
             raise NoColumn(name)
 
     def rule_of(self, name):

@@ -1,12 +1,11 @@
 """Broken tablets: cells by sixties, some figures of which are lost, and the rows at which they can stand."""
 
 from tabletsky.errors import Barred, NoColumn, NoFit, NoReturn, NoTablet, Nowhere, TooMany
-from tabletsky.kinds import are_names, is_list, is_tuple
+from tabletsky.kinds import FIGURES, are_names, is_list, is_tuple
 from tabletsky.sixties import is_form, is_whole, is_whole_from, joined_groups, show
 from tabletsky.tables import shared_return
 
 MOST_TABLET_ROWS = 60
-FIGURES = "0123456789"
 LOST = "?"
 
 
@@ -15,10 +14,20 @@ def _are_forms(thing, many):
     return is_list(thing, many, many) and all([is_form(form) for form in thing])
 
 
+def _cell_of(form, group):
+    """The cell of a form, each of its groups the same one."""
+    wholes, parts = form
+    return joined_groups([group] * (wholes + parts), wholes)
+
+
 def _greatest(form):
     """The text of the greatest worth that a form can show."""
-    wholes, parts = form
-    return joined_groups(["59"] * (wholes + parts), wholes)
+    return _cell_of(form, "59")
+
+
+def blank_of(form):
+    """The cell of a form with all its figures lost."""
+    return _cell_of(form, LOST + LOST)
 
 
 def _is_cell(thing, greatest):
@@ -112,7 +121,7 @@ def _shown(table, name, row, form):
         return None
 
 
-def _figures_of(cell):
+def figures_of(cell):
     """The figures that a cell has, with their places: tuples (place, figure)."""
     return [(place, sign) for place, sign in enumerate(cell) if sign in FIGURES]
 
@@ -133,12 +142,12 @@ def bars(tablet, table, *, row):
     _refuse_unknown(names, table)
     for number, cells in enumerate(tablet.rows()):
         for name, form, cell in zip(names, forms, cells):
-            if not _has(_shown(table, name, row + number, form), _figures_of(cell)):
+            if not _has(_shown(table, name, row + number, form), figures_of(cell)):
                 return (number, name)
     return None
 
 
-def _return_for(tablet, table, most):
+def return_for(tablet, table, most):
     """The number of rows, up to most, behind which all columns of a tablet come again."""
     names = tablet.names()
     _refuse_unknown(names, table)
@@ -150,30 +159,30 @@ def _return_for(tablet, table, most):
     return rows
 
 
-def _texts_of(tablet, table, many):
+def texts_of(tablet, table, many):
     """For each column of a tablet, the texts of its worths at the first so many rows of a table."""
     return [[_shown(table, name, row, form) for row in range(many)]
             for name, form in zip(tablet.names(), tablet.forms())]
 
 
-def _standing(tablet, columns):
+def standing_rows(tablet, columns):
     """The rows of a return at which a tablet can stand, columns being the texts of that return."""
     many = len(columns[0])
     rows = list(range(many))
     for number, cells in enumerate(tablet.rows()):
         for texts, cell in zip(columns, cells):
-            figures = _figures_of(cell)
+            figures = figures_of(cell)
             rows = [row for row in rows if _has(texts[(row + number) % many], figures)]
     return rows
 
 
 def stands(tablet, table, *, most=5000):
     """All rows of a return at which a tablet can stand, rising."""
-    many = _return_for(tablet, table, most)
-    return _standing(tablet, _texts_of(tablet, table, many))
+    many = return_for(tablet, table, most)
+    return standing_rows(tablet, texts_of(tablet, table, many))
 
 
-def _made_like(tablet, rows):
+def made_like(tablet, rows):
     """The tablet of these rows, with another one's names and forms."""
     return Tablet(names=tablet.names(), forms=tablet.forms(), rows=rows)
 
@@ -189,15 +198,15 @@ def filled(tablet, table, *, row):
 
 def sure(tablet, table, *, most=5000):
     """A tablet with each lost figure that is the same one wherever it can stand."""
-    many = _return_for(tablet, table, most)
-    columns = _texts_of(tablet, table, many)
-    standing = _standing(tablet, columns)
+    many = return_for(tablet, table, most)
+    columns = texts_of(tablet, table, many)
+    standing = standing_rows(tablet, columns)
     if not standing:
         raise Nowhere("the tablet can stand at no row")
     rows = []
     for number in range(len(tablet)):
         rows.append([_common([texts[(row + number) % many] for row in standing]) for texts in columns])
-    return _made_like(tablet, rows)
+    return made_like(tablet, rows)
 
 
 def _common(texts):
@@ -256,4 +265,4 @@ def broken(tablet, *, places):
         at = names.index(name)
         cell = rows[row][at]
         rows[row][at] = cell[:place] + LOST + cell[place + 1:]
-    return _made_like(tablet, rows)
+    return made_like(tablet, rows)

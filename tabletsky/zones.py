@@ -5,12 +5,12 @@ from math import lcm
 from tabletsky.errors import NoRule
 from tabletsky.kinds import is_list
 from tabletsky.lines import NOUGHT, rows_with
-from tabletsky.sixties import is_less, is_worth, minus, over, plus, times, worth
+from tabletsky.sixties import is_above_nought, is_less, is_worth, minus, over, plus, times, worth
 
 MOST_ZONES = 12
 
 
-def _are_borders(thing, ring):
+def are_borders(thing, ring):
     """Whether a thing is a list of borders by which a ring can be parted."""
     if not is_list(thing, 1, MOST_ZONES) or not all([is_worth(border) for border in thing]):
         return False
@@ -20,14 +20,14 @@ def _are_borders(thing, ring):
 
 def _are_steps(thing, many):
     """Whether a thing is a list of so many steps."""
-    return is_list(thing, many, many) and all([is_worth(step) and is_less(NOUGHT, step) for step in thing])
+    return is_list(thing, many, many) and all([is_above_nought(step) for step in thing])
 
 
 def _first_wrong(ring, borders, steps, at):
     """The name of the first of these that isn't so; None where they make zones."""
-    if not is_worth(ring) or not is_less(NOUGHT, ring):
+    if not is_above_nought(ring):
         return "ring"
-    if not _are_borders(borders, ring):
+    if not are_borders(borders, ring):
         return "borders"
     if not _are_steps(steps, len(borders)):
         return "steps"

@@ -4,7 +4,7 @@ import unittest
 from fractions import Fraction
 from itertools import product
 
-from helpers import FAR, ODD_THINGS, fraction_of, soon, worth_of
+from helpers import FAR, ODD_THINGS, counted, fraction_of, shown, soon, tablet_of, worth_of
 from tabletsky.errors import Barred, NoColumn, NoReturn, NoTablet, Nowhere, TooMany
 from tabletsky.lines import Line
 from tabletsky.tables import Table
@@ -22,27 +22,8 @@ COLUMNS = [
 TABLE = Table(COLUMNS)
 
 
-def counted(rows):
-    """Zones that tell 0, 1, 2 and so on, again behind so many rows."""
-    return Zones(ring=(rows, 1), borders=[(0, 1)], steps=[(1, 1)], at=(0, 1))
-
-
-def tablet_of(names, forms, *rows):
-    return Tablet(names=names.split(), forms=forms, rows=[row.split() for row in rows])
-
-
 def moons(*cells):
     return tablet_of("moon", [(1, 0)], *cells)
-
-
-def shown(worth, form):
-    """The text of a worth by the words of point 6; None where it doesn't fit."""
-    wholes, parts = form
-    units = fraction_of(worth) * 60 ** parts
-    if units.denominator != 1 or not 0 <= units < 60 ** (wholes + parts):
-        return None
-    groups = [f"{int(units) // 60 ** at % 60:02}" for at in range(wholes + parts - 1, -1, -1)]
-    return ";".join(",".join(some) for some in (groups[:wholes], groups[wholes:]) if some)
 
 
 def barring(tablet, table, row):
