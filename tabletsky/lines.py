@@ -78,3 +78,16 @@ class Line:
     def rows_of(self, thing):
         """The rows of one return that have a worth."""
         return rows_with(self, thing)
+
+    def made_of(self):
+        """The tuple (low, high, step, at, up), at and up at row 0, of which this line can be made again."""
+        low = worth(self._low, self._scale)
+        high = worth(self._low + self._span, self._scale)
+        return (low, high, worth(self._step, self._scale), self.value(0), self.rises(0))
+
+    def turn(self):
+        """The tuple (start, step, ring, scale): where it is on its ring at row 0, and what each row adds.
+
+        All is told in units, so many of which as scale tells are 1. Up to half the ring it goes up.
+        """
+        return (self._start, self._step, 2 * self._span, self._scale)

@@ -95,3 +95,7 @@ class Zones:
     def rows_of(self, thing):
         """The rows of one return that have a place."""
         return rows_with(self, thing)
+
+    def made_of(self):
+        """The tuple (ring, borders, steps, at) of which these zones can be made again."""
+        return (self._ring, list(self._borders), list(self._steps), self.value(0))
