@@ -34,7 +34,7 @@ def _inverse(step, ring):
     return by_greater % ring
 
 
-class _Turn:
+class Turn:
     """Places on a ring of whole numbers that go on by a step each row, and stretches of it, which are dark.
 
     The step has no divisor above 1 in common with the ring: so it comes to each place once in a return,
@@ -104,8 +104,8 @@ def _gaps_of_one(turn):
     if turn.dark == 1:
         return {turn.ring: 1}
     # The least numbers of rows in which a dark place may come to another one: farther on, or back.
-    on = _Turn(turn.ring, turn.step, 0, [(1, turn.dark - 1)]).row_of(0)
-    back = _Turn(turn.ring, turn.step, 0, [(turn.ring - turn.dark + 1, turn.ring - 1)]).row_of(0)
+    on = Turn(turn.ring, turn.step, 0, [(1, turn.dark - 1)]).row_of(0)
+    back = Turn(turn.ring, turn.step, 0, [(turn.ring - turn.dark + 1, turn.ring - 1)]).row_of(0)
     from_on = turn.dark - (turn.step * on) % turn.ring
     from_back = turn.dark - (-turn.step * back) % turn.ring
     # By the rule of three gaps no place can do both, and those that can do neither do one behind the other.
@@ -159,7 +159,7 @@ def _turn_of(line, low, high, up):
         begin, end = -((offset - first) // shared), (last - offset) // shared
         if begin <= end:
             stretches.append((begin, end))
-    return _Turn(ring // shared, step // shared, start // shared, stretches)
+    return Turn(ring // shared, step // shared, start // shared, stretches)
 
 
 class Dark:

@@ -198,7 +198,7 @@ def settled_by(rules, *, first=0):
     return (many, sorted(lots))
 
 
-class _Column:
+class Column:
     """A column of a table, which tells its worths as a rule does."""
 
     def __init__(self, table, name):
@@ -221,7 +221,7 @@ def tables_part(one, other, *, first=0):
         raise NoReturn("a column that both have never comes again")
     found = None
     for name, (own, others) in zip(names, returns):
-        row = _parting(_Column(one, name), _Column(other, name), _rows_needed(own, others), first)
+        row = _parting(Column(one, name), Column(other, name), _rows_needed(own, others), first)
         if row is not None and (found is None or row < found[0]):
             found = (row, name)
     return found

@@ -43,7 +43,7 @@ def _right_cell(cell, text):
     return "".join([sign if sign == LOST else true for sign, true in zip(cell, text)])
 
 
-class _Shown:
+class Shown:
     """The texts of a column's worths at all rows of a return, None of those that don't fit."""
 
     def __init__(self, texts):
@@ -71,7 +71,7 @@ class _Shown:
 
 def _wrong_at_all(tablet, table, many):
     """The Tally of the wrong figures at each row of a return of so many, and the set of rows at which all fits."""
-    columns = [_Shown(texts) for texts in texts_of(tablet, table, many)]
+    columns = [Shown(texts) for texts in texts_of(tablet, table, many)]
     fits = [column.fitting() for column in columns]
     tally = Tally()
     fitting = all_rows(many)

@@ -1,4 +1,4 @@
-"""The plainest rules of the language (L1, L2, L10, L14), over all files of the package."""
+"""The plainest rules of the language (L1, L2, L10, L12, L14), over all files of the package."""
 
 import ast
 import unittest
@@ -40,6 +40,13 @@ class ThePackage(unittest.TestCase):
                 if isinstance(node, ast.FunctionDef):
                     with self.subTest(file=name, function=node.name):
                         self.assertLess(node.end_lineno - node.lineno, 40)
+
+    def test_names_of_classes_begin_with_a_letter(self):
+        for name, tree in trees():
+            for node in ast.walk(tree):
+                if isinstance(node, ast.ClassDef):
+                    with self.subTest(file=name, row=node.lineno):
+                        self.assertRegex(node.name, "^[A-Za-z]")
 
     def test_imports_are_of_the_package_or_allowed(self):
         for name, tree in trees():
